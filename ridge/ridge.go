@@ -3,6 +3,7 @@ package ridge
 
 import (
 	"ridge/api"
+	"ridge/programs"
 	"ridge/ways"
 )
 
@@ -120,11 +121,21 @@ func (g *Graph) Next(b int) (int, api.Errno) {
 }
 
 // Check tells whether a text is a program (P6).
-func Check(program string) (api.Errno, int) { return api.OK, 0 }
+func Check(program string) (api.Errno, int) {
+	_, errno, at := programs.Read(program)
+	return errno, at
+}
 
 // Run runs a program (P7).
 func Run(program string, args []int64, fuel int) (api.Result, api.Errno, int) {
-	return api.Result{}, api.OK, 0
+	p, errno, at := programs.Read(program)
+	if errno != api.OK {
+		return api.Result{}, errno, at
+	}
+	if fuel < 0 || fuel > api.MaxFuel {
+		return api.Result{}, api.ErrConf, 0
+	}
+	return p.Run(args, fuel), api.OK, 0
 }
 
 // Verify tells whether a text is a form (P8).

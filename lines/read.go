@@ -1,0 +1,100 @@
+package lines
+
+import (
+	"slices"
+	"strconv"
+	"strings"
+
+	"ridge/api"
+)
+
+// Line is a statement or a terminator.
+type Line struct {
+	Word   Word
+	Sets   string   // the name that it sets; none: empty
+	Takes  []string // the names that it takes, in their order
+	Number int64    // the number that it takes; none: 0
+	Leads  []int    // the blocks that may be next, in their order
+}
+
+// Read tells what a line within a block says, and whether it says anything.
+func Read(text string) (Line, bool) {
+	words := split(text, most)
+	word, ok := find(words[0])
+	if !ok {
+		return Line{}, false
+	}
+	line := Line{Word: word}
+	behind := words[1:]
+	for _, p := range meanings[word].parts {
+		if p == nothing {
+			break
+		}
+		if len(behind) == 0 || !line.add(p, behind[0]) {
+			return Line{}, false
+		}
+		behind = behind[1:]
+	}
+	return line, len(behind) == 0
+}
+
+// ReadArgs tells which names an args line has, and whether it is one.
+func ReadArgs(text string) ([]string, bool) {
+	words := split(text, api.MaxArgs)
+	names := words[1:]
+	if words[0] != "args" || len(names) > api.MaxArgs {
+		return nil, false
+	}
+	for i, name := range names {
+		if !isName(name) || slices.Contains(names[:i], name) {
+			return nil, false
+		}
+	}
+	return names, true
+}
+
+// split parts a line into its words. If it has more than so many behind the first one, it gives one more than that, with all the rest in it:
+// a line that is far too long is refused without being parted to its end.
+func split(text string, behind int) []string {
+	return strings.SplitN(text, " ", 1+behind+1)
+}
+
+// add takes one more word into the line, and tells whether it is what it should be.
+func (l *Line) add(p part, word string) bool {
+	ok := false
+	switch p {
+	case sets:
+		l.Sets, ok = word, isName(word)
+	case takes:
+		l.Takes, ok = append(l.Takes, word), isName(word)
+	case number:
+		l.Number, ok = readNumber(word)
+	case leads:
+		var block int64
+		block, ok = readNumber(word)
+		ok = ok && block >= 0
+		l.Leads = append(l.Leads, int(block))
+	}
+	return ok
+}
+
+func isName(word string) bool {
+	if len(word) < 1 || len(word) > api.MaxName {
+		return false
+	}
+	for i := range len(word) {
+		if word[i] < 'a' || word[i] > 'z' {
+			return false
+		}
+	}
+	return true
+}
+
+// readNumber tells which number a word is. Each has only one way to be written, so what strconv would write otherwise (`+1`, `01`, `-0`) is none.
+func readNumber(word string) (int64, bool) {
+	n, err := strconv.ParseInt(word, 10, 64)
+	if err != nil || strconv.FormatInt(n, 10) != word {
+		return 0, false
+	}
+	return n, n >= -api.MaxNumber && n <= api.MaxNumber
+}

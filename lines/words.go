@@ -1,0 +1,75 @@
+// Package lines tells what a line of a program says, for itself: not whether it can stand where it stands.
+package lines
+
+// Word is the first word of a line in a block, as its row in the table of meanings.
+type Word int
+
+const (
+	Set Word = iota
+	Copy
+	Add
+	Sub
+	Mul
+	Less
+	Out
+	Goto
+	If
+	End
+)
+
+// part is what one of the words behind the first one is.
+type part int
+
+const (
+	nothing part = iota
+	sets         // the name that the line sets
+	takes        // a name that it takes
+	number       // a number that it takes
+	leads        // the number of a block that may be next
+)
+
+// most is how many words the longest line has behind its first one, args aside.
+const most = 3
+
+// meaning is what a word means: how its line is written, whether it ends a block, and what it makes of the numbers that it takes, if it sets a name.
+type meaning struct {
+	text   string
+	parts  [most]part
+	ends   bool
+	reckon func(y, z int64) int64
+}
+
+var meanings = [...]meaning{
+	Set:  {text: "set", parts: [most]part{sets, number}, reckon: func(y, _ int64) int64 { return y }},
+	Copy: {text: "copy", parts: [most]part{sets, takes}, reckon: func(y, _ int64) int64 { return y }},
+	Add:  {text: "add", parts: [most]part{sets, takes, takes}, reckon: func(y, z int64) int64 { return y + z }},
+	Sub:  {text: "sub", parts: [most]part{sets, takes, takes}, reckon: func(y, z int64) int64 { return y - z }},
+	Mul:  {text: "mul", parts: [most]part{sets, takes, takes}, reckon: func(y, z int64) int64 { return y * z }},
+	Less: {text: "less", parts: [most]part{sets, takes, takes}, reckon: func(y, z int64) int64 {
+		if y < z {
+			return 1
+		}
+		return 0
+	}},
+	Out:  {text: "out", parts: [most]part{takes}},
+	Goto: {text: "goto", parts: [most]part{leads}, ends: true},
+	If:   {text: "if", parts: [most]part{takes, leads, leads}, ends: true},
+	End:  {text: "end", parts: [most]part{takes}, ends: true},
+}
+
+// find tells which word a text is.
+func find(text string) (Word, bool) {
+	for w := range meanings {
+		if meanings[w].text == text {
+			return Word(w), true
+		}
+	}
+	return 0, false
+}
+
+// Ends tells whether a block ends with such a line.
+func (w Word) Ends() bool { return meanings[w].ends }
+
+// Reckon tells what a name is set to by a line that takes y and z, or y alone.
+// It is asked only of words whose lines set a name.
+func (w Word) Reckon(y, z int64) int64 { return meanings[w].reckon(y, z) }
