@@ -3,7 +3,10 @@ package lines
 import (
 	"reflect"
 	"slices"
+	"strings"
 	"testing"
+
+	"ridge/api"
 )
 
 // A line sets a name just if its word reckons: else Reckon could be asked of a word that has no function.
@@ -24,37 +27,85 @@ func TestWhatSetsReckons(t *testing.T) {
 	}
 }
 
+// v is a version as in programs, where it is no more than a name.
+func v(name string) Version { return Version{Name: name} }
+
 func TestRead(t *testing.T) {
 	for text, want := range map[string]Line{
-		"set abc -5": {Word: Set, Sets: "abc", Number: -5},
-		"copy x y":   {Word: Copy, Sets: "x", Takes: []string{"y"}},
-		"add x y z":  {Word: Add, Sets: "x", Takes: []string{"y", "z"}},
-		"less x x y": {Word: Less, Sets: "x", Takes: []string{"x", "y"}},
-		"out x":      {Word: Out, Takes: []string{"x"}},
+		"set abc -5": {Word: Set, Sets: v("abc"), Number: -5},
+		"copy x y":   {Word: Copy, Sets: v("x"), Takes: []Version{v("y")}},
+		"add x y z":  {Word: Add, Sets: v("x"), Takes: []Version{v("y"), v("z")}},
+		"less x x y": {Word: Less, Sets: v("x"), Takes: []Version{v("x"), v("y")}},
+		"out x":      {Word: Out, Takes: []Version{v("x")}},
 		"goto 19":    {Word: Goto, Leads: []int{19}},
-		"if x 2 0":   {Word: If, Takes: []string{"x"}, Leads: []int{2, 0}},
-		"end x":      {Word: End, Takes: []string{"x"}},
+		"if x 2 0":   {Word: If, Takes: []Version{v("x")}, Leads: []int{2, 0}},
+		"end x":      {Word: End, Takes: []Version{v("x")}},
 	} {
-		if line, ok := Read(text); !ok || !reflect.DeepEqual(line, want) {
+		if line, ok := Read(text, Names); !ok || !reflect.DeepEqual(line, want) {
 			t.Errorf("Read(%q) = %+v, %v, want %+v", text, line, ok, want)
 		}
+		if line, ok := Read(text, Versions); ok != (text == "goto 19") {
+			t.Errorf("with versions Read(%q) = %+v, %v", text, line, ok)
+		}
 	}
-	for _, text := range []string{"", "args", "args x", "block", "phi x", "set x", "set x 1 1", "add x y z w", "end x "} {
-		if line, ok := Read(text); ok {
+	for _, text := range []string{"", "args", "args x", "block", "phi x", "set x", "set x 1 1", "add x y z w", "end x ", "end x.0"} {
+		if line, ok := Read(text, Names); ok {
 			t.Errorf("Read(%q) = %+v", text, line)
 		}
 	}
 }
 
-func TestReadArgs(t *testing.T) {
-	for text, want := range map[string][]string{"args": {}, "args x": {"x"}, "args d c b a": {"d", "c", "b", "a"}} {
-		if names, ok := ReadArgs(text); !ok || !slices.Equal(names, want) {
-			t.Errorf("ReadArgs(%q) = %v, %v", text, names, ok)
+// What is read of a form is written as it was.
+func TestReadAndText(t *testing.T) {
+	for _, text := range []string{
+		"set abc.7 -5", "set x.1 0", "set x.1 1000000000", "copy x.1 y.999", "add x.3 y.0 z.2", "sub x.3 y.0 z.2", "mul x.3 y.0 z.2", "less x.10 x.9 x.8",
+		"out x.0", "goto 39", "if x.1 2 0", "if x.1 0 0", "end zz.100",
+	} {
+		if line, ok := Read(text, Versions); !ok || line.Text() != text {
+			t.Errorf("Read(%q) = %+v, %v, as a text %q", text, line, ok, line.Text())
 		}
 	}
-	for _, text := range []string{"", "block", "args ", "args x x", "args a b c d e", "args 1"} {
-		if names, ok := ReadArgs(text); ok {
-			t.Errorf("ReadArgs(%q) = %v", text, names)
+	for _, text := range []string{"phi x.1", "phi x.1 0:x.0", "phi ab.12 3:y.999 39:x.0 0:ab.12 1000000000:z.1"} {
+		if phi, ok := ReadPhi(text); !ok || phi.Text() != text {
+			t.Errorf("ReadPhi(%q) = %+v, %v, as a text %q", text, phi, ok, phi.Text())
 		}
+	}
+	for _, text := range []string{"args", "args x.0", "args d.0 c.0 bb.0 aaa.0"} {
+		if args, ok := ReadArgs(text, Versions); !ok || ArgsText(args) != text {
+			t.Errorf("ReadArgs(%q) = %v, %v, as a text %q", text, args, ok, ArgsText(args))
+		}
+	}
+}
+
+func TestReadArgs(t *testing.T) {
+	for text, want := range map[string][]Version{"args": {}, "args x": {v("x")}, "args d c b a": {v("d"), v("c"), v("b"), v("a")}} {
+		if args, ok := ReadArgs(text, Names); !ok || !slices.Equal(args, want) {
+			t.Errorf("ReadArgs(%q) = %v, %v", text, args, ok)
+		}
+	}
+	for _, text := range []string{"", "block", "args ", "args x x", "args a b c d e", "args 1", "args x.0"} {
+		if args, ok := ReadArgs(text, Names); ok {
+			t.Errorf("ReadArgs(%q) = %v", text, args)
+		}
+	}
+	for _, text := range []string{"", "block", "args ", "args x", "args x.1", "args x.0 x.0", "args a.0 b.0 c.0 d.0 e.0", "args x.0 y.0 x.1"} {
+		if args, ok := ReadArgs(text, Versions); ok {
+			t.Errorf("with versions ReadArgs(%q) = %v", text, args)
+		}
+	}
+}
+
+func TestReadPhi(t *testing.T) {
+	for _, text := range []string{"", "phi", "phi ", "phi x", "phi x.1 ", "phi  x.1", "phi x.1 0", "phi x.1 0:", "phi x.1 :x.0", "phi x.1 0:x", "phi x.1 0:x.0 ", "phi x.1 0:x.0:x.0", "phi x.1 -1:x.0", "phi x.1000", "end x.0"} {
+		if phi, ok := ReadPhi(text); ok {
+			t.Errorf("ReadPhi(%q) = %+v", text, phi)
+		}
+	}
+	long := "phi x.1" + strings.Repeat(" 0:x.0", 100)
+	if phi, ok := ReadPhi(long); !ok || len(phi.Choices) <= api.MaxNodes {
+		t.Errorf("a long phi: %v, %d choices", ok, len(phi.Choices))
+	}
+	if phi, ok := ReadPhi(long + " 0"); ok {
+		t.Errorf("a long phi with a fault at its end: %d choices", len(phi.Choices))
 	}
 }

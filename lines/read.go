@@ -11,14 +11,14 @@ import (
 // Line is a statement or a terminator.
 type Line struct {
 	Word   Word
-	Sets   string   // the name that it sets; none: empty
-	Takes  []string // the names that it takes, in their order
-	Number int64    // the number that it takes; none: 0
-	Leads  []int    // the blocks that may be next, in their order
+	Sets   Version   // the version that it sets; none: without a name
+	Takes  []Version // the versions that it takes, in their order
+	Number int64     // the number that it takes; none: 0
+	Leads  []int     // the blocks that may be next, in their order
 }
 
 // Read tells what a line within a block says, and whether it says anything.
-func Read(text string) (Line, bool) {
+func Read(text string, tongue Tongue) (Line, bool) {
 	words := split(text, most)
 	word, ok := find(words[0])
 	if !ok {
@@ -30,7 +30,7 @@ func Read(text string) (Line, bool) {
 		if p == nothing {
 			break
 		}
-		if len(behind) == 0 || !line.add(p, behind[0]) {
+		if len(behind) == 0 || !line.add(p, behind[0], tongue) {
 			return Line{}, false
 		}
 		behind = behind[1:]
@@ -38,19 +38,21 @@ func Read(text string) (Line, bool) {
 	return line, len(behind) == 0
 }
 
-// ReadArgs tells which names an args line has, and whether it is one.
-func ReadArgs(text string) ([]string, bool) {
+// ReadArgs tells which versions an args line has, and whether it is one.
+func ReadArgs(text string, tongue Tongue) ([]Version, bool) {
 	words := split(text, api.MaxArgs)
-	names := words[1:]
-	if words[0] != "args" || len(names) > api.MaxArgs {
+	if words[0] != "args" || len(words) > 1+api.MaxArgs {
 		return nil, false
 	}
-	for i, name := range names {
-		if !isName(name) || slices.Contains(names[:i], name) {
+	var args []Version
+	for _, word := range words[1:] {
+		v, ok := tongue.read(word)
+		if !ok || v.Number != 0 || slices.Contains(args, v) {
 			return nil, false
 		}
+		args = append(args, v)
 	}
-	return names, true
+	return args, true
 }
 
 // split parts a line into its words. If it has more than so many behind the first one, it gives one more than that, with all the rest in it:
@@ -60,20 +62,21 @@ func split(text string, behind int) []string {
 }
 
 // add takes one more word into the line, and tells whether it is what it should be.
-func (l *Line) add(p part, word string) bool {
+func (l *Line) add(p part, word string, tongue Tongue) bool {
 	ok := false
 	switch p {
 	case sets:
-		l.Sets, ok = word, isName(word)
+		l.Sets, ok = tongue.read(word)
 	case takes:
-		l.Takes, ok = append(l.Takes, word), isName(word)
+		var v Version
+		v, ok = tongue.read(word)
+		l.Takes = append(l.Takes, v)
 	case number:
 		l.Number, ok = readNumber(word)
 	case leads:
-		var block int64
-		block, ok = readNumber(word)
-		ok = ok && block >= 0
-		l.Leads = append(l.Leads, int(block))
+		var block int
+		block, ok = readBlock(word)
+		l.Leads = append(l.Leads, block)
 	}
 	return ok
 }
@@ -88,6 +91,12 @@ func isName(word string) bool {
 		}
 	}
 	return true
+}
+
+// readBlock tells which block's number a word is. Whether there is this block, the line does not say.
+func readBlock(word string) (int, bool) {
+	n, ok := readNumber(word)
+	return int(n), ok && n >= 0
 }
 
 // readNumber tells which number a word is. Each has only one way to be written, so what strconv would write otherwise (`+1`, `01`, `-0`) is none.

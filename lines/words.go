@@ -1,4 +1,4 @@
-// Package lines tells what a line of a program says, for itself: not whether it can stand where it stands.
+// Package lines tells what a line of a program or a form says, for itself: not whether it can stand where it stands.
 package lines
 
 // Word is the first word of a line in a block, as its row in the table of meanings.
@@ -22,16 +22,16 @@ type part int
 
 const (
 	nothing part = iota
-	sets         // the name that the line sets
-	takes        // a name that it takes
+	sets         // the variable that the line sets
+	takes        // a variable that it takes
 	number       // a number that it takes
 	leads        // the number of a block that may be next
 )
 
-// most is how many words the longest line has behind its first one, args aside.
+// most is how many words the longest line has behind its first one, args and phis aside.
 const most = 3
 
-// meaning is what a word means: how its line is written, whether it ends a block, and what it makes of the numbers that it takes, if it sets a name.
+// meaning is what a word means: how its line is written, whether it ends a block, and what it makes of the numbers that it takes, if it sets a variable.
 type meaning struct {
 	text   string
 	parts  [most]part
@@ -70,6 +70,6 @@ func find(text string) (Word, bool) {
 // Ends tells whether a block ends with such a line.
 func (w Word) Ends() bool { return meanings[w].ends }
 
-// Reckon tells what a name is set to by a line that takes y and z, or y alone.
-// It is asked only of words whose lines set a name.
+// Reckon tells what a variable is set to by a line that takes y and z, or y alone.
+// It is asked only of words whose lines set one.
 func (w Word) Reckon(y, z int64) int64 { return meanings[w].reckon(y, z) }

@@ -8,53 +8,69 @@ import (
 	"ridge/lines"
 )
 
+// values is what the variables are; those that it does not have are 0.
+type values map[lines.Version]int64
+
 // Run tells how a run with these arguments goes, until it ends or needs more than the fuel.
 func (p *Program) Run(args []int64, fuel int) api.Result {
-	values := p.start(args)
+	v := p.start(args)
 	var trace []string
 	at := 0
 blocks:
 	for {
-		for _, line := range p.blocks[at].lines {
+		for _, line := range p.Blocks[at].Lines {
 			if fuel == 0 {
 				break blocks
 			}
 			fuel--
-			y, z := taken(line, values)
+			y, z := v.taken(line)
 			switch line.Word {
 			case lines.Out:
 				trace = append(trace, strconv.FormatInt(y, 10))
 			case lines.Goto, lines.If:
+				from := at
 				at = next(line, y)
+				v.meet(p.Blocks[at].Phis, from)
 				continue blocks
 			case lines.End:
 				return api.Result{Ended: true, Value: y, Trace: strings.Join(trace, " ")}
 			default:
-				values[line.Sets] = line.Word.Reckon(y, z)
+				v[line.Sets] = line.Word.Reckon(y, z)
 			}
 		}
 	}
 	return api.Result{Trace: strings.Join(trace, " ")}
 }
 
-// start tells what the variables are at first: those that it does not have are 0.
-func (p *Program) start(args []int64) map[string]int64 {
-	values := map[string]int64{}
-	for i, name := range p.args {
+// start tells what the variables are at first.
+func (p *Program) start(args []int64) values {
+	v := values{}
+	for i, arg := range p.Args {
 		if i < len(args) {
-			values[name] = args[i]
+			v[arg] = args[i]
 		}
 	}
-	return values
+	return v
 }
 
-// taken tells the two numbers that a line takes, 0 for each that it does not. No line takes a number of its own and names too.
-func taken(line lines.Line, values map[string]int64) (int64, int64) {
+// taken tells the two numbers that a line takes, 0 for each that it does not. No line takes a number of its own and variables too.
+func (v values) taken(line lines.Line) (int64, int64) {
 	given := [2]int64{line.Number}
-	for i, name := range line.Takes {
-		given[i] = values[name]
+	for i, version := range line.Takes {
+		given[i] = v[version]
 	}
 	return given[0], given[1]
+}
+
+// meet does the phis of a block to which the run comes. None may see what another one sets, so all take ahead of all setting.
+func (v values) meet(phis []lines.Phi, from int) {
+	taken := make([]int64, len(phis))
+	for i, phi := range phis {
+		taken[i] = v[phi.Taken(from)]
+	}
+	for i, phi := range phis {
+		v[phi.Sets] = taken[i]
+	}
 }
 
 // next tells to which block a line leads that takes x, or nothing.

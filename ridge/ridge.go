@@ -3,6 +3,7 @@ package ridge
 
 import (
 	"ridge/api"
+	"ridge/forms"
 	"ridge/programs"
 	"ridge/ways"
 )
@@ -129,6 +130,11 @@ func Check(program string) (api.Errno, int) {
 // Run runs a program (P7).
 func Run(program string, args []int64, fuel int) (api.Result, api.Errno, int) {
 	p, errno, at := programs.Read(program)
+	return run(p, errno, at, args, fuel)
+}
+
+// run runs what was read, unless there was an error, or the fuel is none.
+func run(p programs.Program, errno api.Errno, at int, args []int64, fuel int) (api.Result, api.Errno, int) {
 	if errno != api.OK {
 		return api.Result{}, errno, at
 	}
@@ -139,15 +145,26 @@ func Run(program string, args []int64, fuel int) (api.Result, api.Errno, int) {
 }
 
 // Verify tells whether a text is a form (P8).
-func Verify(form string) (api.Errno, int) { return api.OK, 0 }
+func Verify(form string) (api.Errno, int) {
+	_, errno, at := forms.Read(form)
+	return errno, at
+}
 
 // Exec runs a form (P9).
 func Exec(form string, args []int64, fuel int) (api.Result, api.Errno, int) {
-	return api.Result{}, api.OK, 0
+	f, errno, at := forms.Read(form)
+	return run(f, errno, at, args, fuel)
 }
 
 // Convert makes a form of a program (P10).
-func Convert(program string) (string, api.Errno, int) { return "", api.OK, 0 }
+func Convert(program string) (string, api.Errno, int) {
+	p, errno, at := programs.Read(program)
+	if errno != api.OK {
+		return "", errno, at
+	}
+	form := forms.Make(&p)
+	return form.Text(), api.OK, 0
+}
 
 // Tidy makes a shorter form of one (P11).
 func Tidy(form string) (string, api.Errno, int) { return "", api.OK, 0 }

@@ -64,12 +64,18 @@ func (w walk) held(a int) []bool {
 	return all
 }
 
-// nearest tells the node, other than b, that all ways to b go over, such that all ways to it go over all others of these; -1, if there is none.
-func (w walk) nearest(b int) int {
+// allHeld tells of each node, in its row, what held tells of it.
+func (w walk) allHeld() [][]bool {
 	held := make([][]bool, len(w.steps))
 	for a := range held {
 		held[a] = w.held(a)
 	}
+	return held
+}
+
+// nearest tells the node, other than b, that all ways to b go over, such that all ways to it go over all others of these; -1, if there is none.
+func (w walk) nearest(b int) int {
+	held := w.allHeld()
 candidates:
 	for a := range held {
 		if a == b || !held[a][b] {

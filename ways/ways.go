@@ -43,6 +43,20 @@ func (g *Graph) Reached(b int) bool { return g.onward().reached(noNode)[b] }
 // Over tells whether b is reached, and all ways from node 0 to it go over a.
 func (g *Graph) Over(a int, b int) bool { return g.onward().held(a)[b] }
 
+// AllOver tells of each node, in its row, which nodes it is over.
+func (g *Graph) AllOver() [][]bool { return g.onward().allHeld() }
+
+// Ahead tells, by rising numbers, the nodes from which an edge leads to b.
+func (g *Graph) Ahead(b int) []int {
+	var list []int
+	for a := range g.nodes {
+		if g.Count(a, b) > 0 {
+			list = append(list, a)
+		}
+	}
+	return list
+}
+
 // Last tells the last node over b, or -1 if only b itself is.
 func (g *Graph) Last(b int) int { return g.onward().nearest(b) }
 

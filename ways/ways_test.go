@@ -42,6 +42,27 @@ func TestBothDirections(t *testing.T) {
 	}
 }
 
+// AllOver says at once what Over says one by one, and Ahead what Count says.
+func TestAllAtOnce(t *testing.T) {
+	g := New(5)
+	for _, e := range [][2]int{{0, 1}, {0, 1}, {1, 2}, {2, 1}, {2, 2}, {4, 2}, {4, 1}} {
+		g.Add(e[0], e[1])
+	}
+	all := g.AllOver()
+	for a := range 5 {
+		for b := range 5 {
+			if all[a][b] != g.Over(a, b) {
+				t.Errorf("%d over %d: %v, %v", a, b, all[a][b], g.Over(a, b))
+			}
+		}
+	}
+	for b, want := range [][]int{nil, {0, 2, 4}, {1, 2, 4}, nil, nil} {
+		if l := g.Ahead(b); !slices.Equal(l, want) {
+			t.Errorf("ahead of %d: %v, want %v", b, l, want)
+		}
+	}
+}
+
 // A graph without nodes is nobody's wish, but it can be asked where no ways meet.
 func TestNothing(t *testing.T) {
 	var g Graph
