@@ -1,6 +1,7 @@
 package lines
 
 import (
+	"math"
 	"reflect"
 	"slices"
 	"strings"
@@ -24,6 +25,35 @@ func TestWhatSetsReckons(t *testing.T) {
 		if slices.Contains(m.parts[:], number) && slices.Contains(m.parts[:], takes) {
 			t.Errorf("%s takes a number of its own and names too", m.text)
 		}
+	}
+}
+
+// The table and the functions say the same of each word.
+func TestTableAndFunctions(t *testing.T) {
+	numbers := []int64{0, 1, -1, 2, 7, -1000000000, 1 << 32, math.MaxInt64, math.MinInt64, math.MaxInt64 - 1}
+	for i, m := range meanings {
+		w := Word(i)
+		if found, ok := find(m.text); !ok || found != w {
+			t.Errorf("find(%q) = %d, %v, want %d", m.text, found, ok, w)
+		}
+		if w.parts() != m.parts || w.Ends() != m.ends {
+			t.Errorf("%s: %v, %v, in the table %v, %v", m.text, w.parts(), w.Ends(), m.parts, m.ends)
+		}
+		for _, y := range numbers {
+			for _, z := range numbers {
+				if m.reckon != nil && w.Reckon(y, z) != m.reckon(y, z) {
+					t.Errorf("%s of %d and %d: %d, in the table %d", m.text, y, z, w.Reckon(y, z), m.reckon(y, z))
+				}
+			}
+		}
+	}
+	for _, text := range []string{"", "Set", "sets", "args", "block", "phi"} {
+		if w, ok := find(text); ok {
+			t.Errorf("find(%q) = %d", text, w)
+		}
+	}
+	if w := Word(len(meanings)); w.parts() != ([most]part{}) || w.Ends() {
+		t.Errorf("a word behind the last one: %v, %v", w.parts(), w.Ends())
 	}
 }
 

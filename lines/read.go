@@ -26,7 +26,7 @@ func Read(text string, tongue Tongue) (Line, bool) {
 	}
 	line := Line{Word: word}
 	behind := words[1:]
-	for _, p := range meanings[word].parts {
+	for _, p := range word.parts() {
 		if p == nothing {
 			break
 		}
