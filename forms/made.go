@@ -1,4 +1,4 @@
-// Package forms tells whether forms are well made, and makes forms of programs.
+// Package forms tells whether forms are well made, makes forms of programs, and tidies forms.
 package forms
 
 import (

@@ -39,7 +39,12 @@ func moved(program *programs.Program) programs.Program {
 
 // leading tells a block that does nothing but lead to a block.
 func leading(to int) programs.Block {
-	return programs.Block{Lines: []lines.Line{{Word: lines.Goto, Leads: []int{to}}}}
+	return programs.Block{Lines: []lines.Line{goTo(to)}}
+}
+
+// goTo tells a line that leads to a block, whatever the variables are.
+func goTo(to int) lines.Line {
+	return lines.Line{Word: lines.Goto, Leads: []int{to}}
 }
 
 // closeAway makes each block that is not reached lead to itself alone.

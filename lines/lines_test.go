@@ -139,3 +139,12 @@ func TestReadPhi(t *testing.T) {
 		t.Errorf("a long phi with a fault at its end: %d choices", len(phi.Choices))
 	}
 }
+
+func TestNext(t *testing.T) {
+	for text, want := range map[string][3]int{"goto 3": {3, 3, 3}, "if x 1 2": {1, 2, 1}, "if x 4 4": {4, 4, 4}} {
+		line, _ := Read(text, Names)
+		if got := [3]int{line.Next(-1), line.Next(0), line.Next(math.MaxInt64)}; got != want {
+			t.Errorf("%s leads to %v, want %v", text, got, want)
+		}
+	}
+}

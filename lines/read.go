@@ -17,6 +17,14 @@ type Line struct {
 	Leads  []int     // the blocks that may be next, in their order
 }
 
+// Next tells to which block a line leads that takes x, or nothing. It is asked only of lines that lead to one.
+func (l Line) Next(x int64) int {
+	if l.Word == If && x == 0 {
+		return l.Leads[1]
+	}
+	return l.Leads[0]
+}
+
 // Read tells what a line within a block says, and whether it says anything.
 func Read(text string, tongue Tongue) (Line, bool) {
 	words := split(text, most)

@@ -29,7 +29,7 @@ blocks:
 				trace = append(trace, strconv.FormatInt(y, 10))
 			case lines.Goto, lines.If:
 				from := at
-				at = next(line, y)
+				at = line.Next(y)
 				v.meet(p.Blocks[at].Phis, from)
 				continue blocks
 			case lines.End:
@@ -71,12 +71,4 @@ func (v values) meet(phis []lines.Phi, from int) {
 	for i, phi := range phis {
 		v[phi.Sets] = taken[i]
 	}
-}
-
-// next tells to which block a line leads that takes x, or nothing.
-func next(line lines.Line, x int64) int {
-	if line.Word == lines.If && x == 0 {
-		return line.Leads[1]
-	}
-	return line.Leads[0]
 }

@@ -167,4 +167,11 @@ func Convert(program string) (string, api.Errno, int) {
 }
 
 // Tidy makes a shorter form of one (P11).
-func Tidy(form string) (string, api.Errno, int) { return "", api.OK, 0 }
+func Tidy(form string) (string, api.Errno, int) {
+	f, errno, at := forms.Read(form)
+	if errno != api.OK {
+		return "", errno, at
+	}
+	forms.Tidy(&f)
+	return f.Text(), api.OK, 0
+}
